@@ -1,0 +1,52 @@
+"""Checks of kinds and ranges that all parts of the program share."""
+
+from huewalks.errors import BadNumber, BadText
+
+MOST_DIGITS = 4
+
+
+def is_whole(value):
+    """True for an integer that is not a bool."""
+    return isinstance(value, int) and not isinstance(value, bool)
+
+
+def is_sequence(value):
+    """True for a list or a tuple."""
+    return isinstance(value, (list, tuple))
+
+
+def is_between(low, high, value):
+    """True for an integer from low to high."""
+    return is_whole(value) and low <= value <= high
+
+
+def first_outside(low, high, values):
+    """The index of the first member that is not an integer from low to high; None if there is none."""
+    for i, value in enumerate(values):
+        if not is_between(low, high, value):
+            return i
+    return None
+
+
+def check_number(low, high, value):
+    """Refuse what is not an integer from low to high."""
+    if not is_between(low, high, value):
+        raise BadNumber()
+
+
+def check_text(text):
+    """Refuse what is not a string."""
+    if not isinstance(text, str):
+        raise BadText(0)
+
+
+def read_number(word):
+    """The number from 0 to 9999 that the word writes; None for every other word."""
+    # Longer words are never turned into integers: Python refuses thousands of digits.
+    if len(word) > MOST_DIGITS:
+        return None
+    if not word.isascii() or not word.isdigit():
+        return None
+    if len(word) > 1 and word[0] == "0":
+        return None
+    return int(word)

@@ -1,0 +1,70 @@
+"""The names, the parameters and the files that the interface tells."""
+
+import inspect
+import unittest
+
+from huewalks import errors, walks, webs, webtext
+
+FUNCTIONS = {
+    webs: (
+        "row_web(places)",
+        "path_web(places)",
+        "ring_web(places)",
+        "two_way_web(places, ties)",
+        "beside_web(first, second)",
+        "part_web(web, places)",
+    ),
+    webtext: ("format_web(web)", "parse_web(text)"),
+    walks: (
+        "walk_number(web, places)",
+        "all_walks(web, places)",
+        "is_walk(web, walk)",
+        "walk_rank(web, walk)",
+        "walk_of_rank(web, places, rank)",
+        "windows(walk, span)",
+        "is_hueing(web, span, many, hues)",
+        "hue_table(web, span, hues)",
+        "hue_counts(web, span, many, hues)",
+        "hueing_by_number(web, span, many, number)",
+    ),
+}
+
+WEB_METHODS = (
+    "__init__(self, places, arrows=())",
+    "out_of(self, place)",
+    "into(self, place)",
+    "turned(self)",
+    "with_arrow(self, u, v)",
+    "without_arrow(self, u, v)",
+)
+
+
+class InterfaceTest(unittest.TestCase):
+
+    def test_functions_stand_in_their_files(self):
+        for module, heads in FUNCTIONS.items():
+            for head in heads:
+                name = head.partition("(")[0]
+                function = getattr(module, name)
+                self.assertEqual(name + str(inspect.signature(function)), head)
+                self.assertEqual(function.__module__, module.__name__)
+
+    def test_methods_stand_in_the_class(self):
+        self.assertEqual(webs.Web.__module__, "huewalks.webs")
+        for head in WEB_METHODS:
+            name = head.partition("(")[0]
+            self.assertEqual(name + str(inspect.signature(vars(webs.Web)[name])), head)
+        for name in ("__len__", "__iter__", "__contains__", "__eq__"):
+            self.assertIn(name, vars(webs.Web))
+
+    def test_properties_are_read_without_a_call(self):
+        web = webs.Web(2, [(0, 1)])
+        self.assertEqual((web.places, web.arrows), (2, [(0, 1)]))
+
+    def test_errors_stand_in_their_file(self):
+        for name in ("HueError", "BadWeb", "BadNumber", "BadText", "TooMany", "TooLong", "Ended"):
+            self.assertEqual(getattr(errors, name).__module__, "huewalks.errors")
+
+
+if __name__ == "__main__":
+    unittest.main()
