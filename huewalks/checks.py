@@ -1,8 +1,10 @@
 """Checks of kinds and ranges that all parts of the program share."""
 
-from huewalks.errors import BadNumber, BadText
+from huewalks.errors import BadBounds, BadNumber, BadText
 
 MOST_DIGITS = 4
+MOST_HUES = 8
+MOST_BOUND = 200
 
 
 def is_whole(value):
@@ -32,6 +34,15 @@ def check_number(low, high, value):
     """Refuse what is not an integer from low to high."""
     if not is_between(low, high, value):
         raise BadNumber()
+
+
+def check_bounds(bounds):
+    """Refuse what is not one bound for each of 1 to 8 hues."""
+    if not is_sequence(bounds) or not is_between(1, MOST_HUES, len(bounds)):
+        raise BadBounds(None)
+    wrong = first_outside(1, MOST_BOUND, bounds)
+    if wrong is not None:
+        raise BadBounds(wrong)
 
 
 def check_text(text):

@@ -1,6 +1,6 @@
 """Walks of a web, their windows, and the hueings of the walks of one length."""
 
-from huewalks.checks import check_number, first_outside, is_between, is_sequence, is_whole
+from huewalks.checks import MOST_HUES, check_number, first_outside, is_between, is_sequence, is_whole
 from huewalks.errors import BadHueing, BadNumber, BadWalk, TooMany
 from huewalks.webs import check_web
 
@@ -8,7 +8,6 @@ MOST_WALKS = 2000
 MOST_WALK_PLACES = 300
 LEAST_SPAN = 2
 MOST_SPAN = 6
-MOST_HUES = 8
 
 
 def walk_number(web, places):

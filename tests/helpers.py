@@ -3,6 +3,7 @@
 import unittest
 
 from huewalks.errors import HueError
+from huewalks.orders import Order
 from huewalks.webs import Web
 
 HUGE = 10 ** 399
@@ -17,17 +18,30 @@ ERROR_ATTRIBUTES = (
     "bare_walk",
 )
 
-NOT_INTEGERS = (None, True, False, "1", "", [1], (1,), {}, {1: 1}, Web(1))
+NOT_INTEGERS = (None, True, False, "1", "", [1], (1,), {}, {1: 1}, Web(1), Order(1))
 
-NOT_SEQUENCES = (None, True, False, 0, 2, "", "01", {}, {0: 1, 1: 0}, Web(2, [(0, 1), (1, 0)]))
+NOT_SEQUENCES = (
+    None, True, False, 0, 2, "", "01", {}, {0: 1, 1: 0}, Web(2, [(0, 1), (1, 0)]), Order(2, [(0, 1)]),
+)
 
-NOT_WEBS = (None, True, 0, 3, "web 3", [], (), (3, ()), [(0, 1)], {})
+NOT_WEBS = (None, True, 0, 3, "web 3", [], (), (3, ()), [(0, 1)], {}, Order(3))
+
+NOT_ORDERS = (None, True, 0, 3, "order 3", [], (), (3, ()), [(0, 1)], {}, Web(3))
+
+NOT_SPANS = NOT_INTEGERS + (0, 1, -2, 7, HUGE, -HUGE)
+
+# Each wrong value of bounds with the index that its refusal names.
+WRONG_BOUNDS = [(value, None) for value in NOT_SEQUENCES + ([], (), [1] * 9, (0,) * 9, [None] * 9)]
+for member in NOT_INTEGERS + (0, -1, 201, HUGE, -HUGE):
+    WRONG_BOUNDS = WRONG_BOUNDS + [([member], 0), ((200, 1, member, 0), 2), ([1] * 7 + [member], 7)]
 
 
 def shown(value):
     """A string that is equal for values that are equal in all members and all their kinds."""
     if isinstance(value, Web):
         return f"Web({shown(value.places)}, {shown(value.arrows)})"
+    if isinstance(value, Order):
+        return f"Order({shown(value.size)}, {shown(value.covers)})"
     if type(value) is list:
         return "[" + ", ".join([shown(member) for member in value]) + "]"
     if type(value) is tuple:
@@ -59,6 +73,34 @@ def all_small_webs(most):
         for bits in range(2 ** len(pairs)):
             webs.append(Web(places, [pair for i, pair in enumerate(pairs) if bits >> i & 1]))
     return webs
+
+
+def reached_by_trial(size, pairs):
+    """For each two things whether one can go from the first to the second by the pairs."""
+    table = [[a == b for b in range(size)] for a in range(size)]
+    for a, b in pairs:
+        table[a][b] = True
+    for c in range(size):
+        for a in range(size):
+            if table[a][c]:
+                table[a] = [table[a][b] or table[c][b] for b in range(size)]
+    return table
+
+
+def table_of(order):
+    """For each two things of the order whether the first is at or below the second."""
+    return [[order.at_or_below(a, b) for b in range(order.size)] for a in range(order.size)]
+
+
+def all_small_orders(most):
+    """All orders with at most this many things, each once."""
+    orders = {}
+    for size in range(most + 1):
+        pairs = [(a, b) for b in range(size) for a in range(b)]
+        for bits in range(2 ** len(pairs)):
+            order = Order(size, [pair for i, pair in enumerate(pairs) if bits >> i & 1])
+            orders[shown(order)] = order
+    return list(orders.values())
 
 
 class ProgramTest(unittest.TestCase):

@@ -6,9 +6,8 @@ from itertools import product
 from huewalks.errors import BadHueing, BadNumber, BadWeb, TooMany
 from huewalks.walks import all_walks, hue_counts, hue_table, hueing_by_number, is_hueing
 from huewalks.webs import Web, path_web, ring_web, row_web
-from helpers import HUGE, NOT_INTEGERS, NOT_SEQUENCES, NOT_WEBS, ProgramTest, hub_web
+from helpers import HUGE, NOT_INTEGERS, NOT_SEQUENCES, NOT_SPANS, NOT_WEBS, ProgramTest, hub_web
 
-NOT_SPANS = NOT_INTEGERS + (0, 1, -2, 7, HUGE, -HUGE)
 NOT_MANIES = NOT_INTEGERS + (0, -1, 9, HUGE, -HUGE)
 
 # The row of 4 places has 4 walks of 3 places.

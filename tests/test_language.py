@@ -47,6 +47,14 @@ BARRED_WORDS = """
 BARRED_NAMES = "mro elements open input law version_info with_traceback add_note".split()
 
 
+# Methods that may change something; what the other double-underscore methods run may not.
+CHANGING = ("__init__", "__setitem__", "__call__", "__enter__", "__exit__")
+
+FOLDING = ("any", "all", "sum", "min", "max", "sorted")
+
+NAMED_BUILTINS = "object id format credits license copyright quit callable complex ascii oct memoryview".split()
+
+
 class LanguageTest(unittest.TestCase):
 
     @classmethod
@@ -161,6 +169,55 @@ class LanguageTest(unittest.TestCase):
             self.assertNotIsInstance(node.value, (float, complex), (name, node.lineno))
         for name, node in self.nodes(ast.Div):
             self.fail(name)
+
+    def test_l5_operators_and_properties_change_no_object(self):
+        for name, node in self.nodes(ast.FunctionDef):
+            sign = node.name.startswith("__") and node.name not in CHANGING
+            if not sign and "property" not in [ast.unparse(decorator) for decorator in node.decorator_list]:
+                continue
+            for part in ast.walk(node):
+                stored = isinstance(getattr(part, "ctx", None), (ast.Store, ast.Del))
+                self.assertFalse(stored and not isinstance(part, (ast.Name, ast.Tuple)), (name, node.name))
+                self.assertNotIsInstance(part, ast.AugAssign, (name, node.name))
+
+    def test_l7_lists_instead_of_generator_expressions(self):
+        # The package has classes with __eq__ and with operators.
+        for name, node in self.nodes(ast.Call):
+            if isinstance(node.func, ast.Name) and node.func.id in FOLDING:
+                self.assertEqual([part for part in node.args if isinstance(part, ast.GeneratorExp)], [], name)
+
+    def test_l24_sets(self):
+        for name, tree in [(path.name, tree) for path, tree in self.trees.items()]:
+            held = [part for node in ast.walk(tree) for part in self.set_places(node)]
+            for node in ast.walk(tree):
+                made = isinstance(node, ast.Call) and isinstance(node.func, ast.Name) and node.func.id == "set"
+                if made or isinstance(node, (ast.Set, ast.SetComp)):
+                    self.assertIn(node, held, (name, node.lineno))
+
+    def set_places(self, node):
+        if isinstance(node, ast.Call) and isinstance(node.func, ast.Name) and node.func.id in ("sorted", "len"):
+            return node.args[:1]
+        if isinstance(node, ast.Compare):
+            return node.comparators
+        if isinstance(node, ast.Assign) and isinstance(node.targets[0], ast.Name):
+            return [node.value]
+        return []
+
+    def test_l15_local_names(self):
+        for path, tree in self.trees.items():
+            taken = [node.name for node in tree.body if isinstance(node, ast.ClassDef)]
+            taken += [alias.name for node in tree.body if isinstance(node, ast.ImportFrom) for alias in node.names]
+            taken += [name for name in dir(builtins) if name not in NAMED_BUILTINS]
+            for node in ast.walk(tree):
+                if isinstance(node, ast.Name) and isinstance(node.ctx, ast.Store):
+                    self.assertNotIn(node.id, taken, (path.name, node.lineno))
+                if isinstance(node, ast.arg):
+                    self.assertNotIn(node.arg, taken, (path.name, node.lineno))
+
+    def test_l27_exponents(self):
+        for name, node in self.nodes(ast.BinOp, ast.AugAssign):
+            if isinstance(node.op, ast.Pow):
+                self.assertIsInstance(node.right, ast.Constant, (name, node.lineno))
 
     def test_l8_builtins(self):
         for name, node in self.nodes(ast.Name):
