@@ -7,7 +7,7 @@ from huewalks.orders import chain_order, check_size
 
 def box_rows(bounds):
     """The ascending list of all rows of the box."""
-    _check_box(bounds)
+    check_box(bounds)
     rows = [()]
     for bound in bounds:
         rows = [row + (x,) for row in rows for x in range(bound)]
@@ -16,7 +16,7 @@ def box_rows(bounds):
 
 def box(bounds):
     """The order of the rows, in which a row is at or below another if each of its entries is."""
-    _check_box(bounds)
+    check_box(bounds)
     # Things of a product are numbered as ascending rows are.
     rows = chain_order(1)
     for bound in bounds:
@@ -67,7 +67,7 @@ def count_rows(bounds):
     return count
 
 
-def _check_box(bounds):
+def check_box(bounds):
     """Refuse what are not bounds, and bounds of a box with too many rows."""
     check_bounds(bounds)
     check_size(count_rows(bounds))

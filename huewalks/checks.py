@@ -1,6 +1,6 @@
 """Checks of kinds and ranges that all parts of the program share."""
 
-from huewalks.errors import BadBounds, BadNumber, BadText
+from huewalks.errors import BadBounds, BadNumber, BadText, BadThings
 
 MOST_DIGITS = 4
 MOST_HUES = 8
@@ -30,6 +30,11 @@ def first_outside(low, high, values):
     return None
 
 
+def is_filled(many, low, high, value):
+    """True for a sequence of exactly this many integers from low to high."""
+    return is_sequence(value) and len(value) == many and first_outside(low, high, value) is None
+
+
 def check_number(low, high, value):
     """Refuse what is not an integer from low to high."""
     if not is_between(low, high, value):
@@ -38,11 +43,25 @@ def check_number(low, high, value):
 
 def check_bounds(bounds):
     """Refuse what is not one bound for each of 1 to 8 hues."""
-    if not is_sequence(bounds) or not is_between(1, MOST_HUES, len(bounds)):
+    check_bounds_within(1, MOST_HUES, MOST_BOUND, bounds)
+
+
+def check_bounds_within(least, most, greatest, bounds):
+    """Refuse what is not a sequence of least to most bounds, each at most the greatest."""
+    if not is_sequence(bounds) or not is_between(least, most, len(bounds)):
         raise BadBounds(None)
-    wrong = first_outside(1, MOST_BOUND, bounds)
+    wrong = first_outside(1, greatest, bounds)
     if wrong is not None:
         raise BadBounds(wrong)
+
+
+def check_things_below(many, limit, things):
+    """Refuse what is not a sequence of exactly this many integers from 0 to the limit minus 1."""
+    if not is_sequence(things) or len(things) != many:
+        raise BadThings(None)
+    wrong = first_outside(0, limit - 1, things)
+    if wrong is not None:
+        raise BadThings(wrong)
 
 
 def check_text(text):

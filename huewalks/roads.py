@@ -22,14 +22,14 @@ def is_road(web, span, hues, hue, road):
 def depths(web, span, hues, hue, cap):
     """For each walk of span - 1 places the most steps, up to cap, of a road of the hue that ends in it."""
     _check_road_question(web, span, hues, hue, cap)
-    links = _links_of_hue(list_links(web, span), hues, hue)
+    links = links_of_hue(list_links(web, span), hues, hue)
     return most_steps(count_walks(web, span - 1), links, cap)
 
 
 def heads(web, span, hues, hue, cap):
     """For each walk of span - 1 places the most steps, up to cap, of a road of the hue that begins with it."""
     _check_road_question(web, span, hues, hue, cap)
-    links = _links_of_hue(list_links(web, span), hues, hue)
+    links = links_of_hue(list_links(web, span), hues, hue)
     return most_steps(count_walks(web, span - 1), _turned_links(links), cap)
 
 
@@ -41,8 +41,8 @@ def longest(web, span, hues, hue, cap):
 def least_road(web, span, hues, hue, steps):
     """The least road of the hue with exactly this many steps; None if there is none."""
     _check_road_question(web, span, hues, hue, steps)
-    links = _links_of_hue(list_links(web, span), hues, hue)
-    return _least_road_along(list_walks(web, span - 1), links, steps)
+    links = links_of_hue(list_links(web, span), hues, hue)
+    return least_road_along(list_walks(web, span - 1), links, steps)
 
 
 def keeps_bounds(web, span, bounds, hues):
@@ -59,7 +59,7 @@ def long_road(web, span, bounds, hues):
     hue = _first_long_hue(len(walks), links, bounds, hues)
     if hue is None:
         return None
-    return (hue, _least_road_along(walks, _links_of_hue(links, hues, hue), bounds[hue]))
+    return (hue, least_road_along(walks, links_of_hue(links, hues, hue), bounds[hue]))
 
 
 def find_hueing(web, span, bounds):
@@ -86,6 +86,11 @@ def list_links(web, span):
     return [(numbers[walk[:-1]], numbers[walk[1:]]) for walk in list_walks(web, span)]
 
 
+def links_of_hue(links, hues, hue):
+    """The links whose walks have the hue."""
+    return [link for link, worn in zip(links, hues) if worn == hue]
+
+
 def most_steps(many_ends, links, cap):
     """The most steps, up to cap, that one can go along the links so as to end in each of the many ends."""
     most = [0] * many_ends
@@ -98,6 +103,20 @@ def most_steps(many_ends, links, cap):
         for _, v in live:
             most[v] = steps
     return most
+
+
+def least_road_along(walks, links, steps):
+    """The least road along the links with exactly this many steps; None if there is none."""
+    ahead = most_steps(len(walks), _turned_links(links), steps)
+    if steps not in ahead:
+        return None
+    at = ahead.index(steps)
+    road = walks[at]
+    for rest in range(steps - 1, -1, -1):
+        # The walks that follow one walk differ in their last places alone, so the least index is the least place.
+        at = min([v for u, v in links if u == at and ahead[v] >= rest])
+        road = road + walks[at][-1:]
+    return road
 
 
 def _check_road_question(web, span, hues, hue, steps):
@@ -117,34 +136,15 @@ def _check_bounds_question(web, span, bounds, hues):
     check_hues(web, span, len(bounds), hues)
 
 
-def _links_of_hue(links, hues, hue):
-    """The links whose walks have the hue."""
-    return [link for link, worn in zip(links, hues) if worn == hue]
-
-
 def _turned_links(links):
     """Each link the other way round."""
     return [(v, u) for u, v in links]
 
 
-def _least_road_along(walks, links, steps):
-    """The least road along the links with exactly this many steps; None if there is none."""
-    ahead = most_steps(len(walks), _turned_links(links), steps)
-    if steps not in ahead:
-        return None
-    at = ahead.index(steps)
-    road = walks[at]
-    for rest in range(steps - 1, -1, -1):
-        # The walks that follow one walk differ in their last places alone, so the least index is the least place.
-        at = min([v for u, v in links if u == at and ahead[v] >= rest])
-        road = road + walks[at][-1:]
-    return road
-
-
 def _first_long_hue(many_ends, links, bounds, hues):
     """The least hue that has a road with as many steps as its bound; None if none has."""
     for hue, bound in enumerate(bounds):
-        if bound in most_steps(many_ends, _links_of_hue(links, hues, hue), bound):
+        if bound in most_steps(many_ends, links_of_hue(links, hues, hue), bound):
             return hue
     return None
 

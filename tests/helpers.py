@@ -36,6 +36,28 @@ for member in NOT_INTEGERS + (0, -1, 201, HUGE, -HUGE):
     WRONG_BOUNDS = WRONG_BOUNDS + [([member], 0), ((200, 1, member, 0), 2), ([1] * 7 + [member], 7)]
 
 
+# A list in a list, deeper than any argument needs to be.
+DEEP = []
+for _ in range(45):
+    DEEP = [DEEP]
+
+# Values for judges; a web with places and arrows, an order and bounds give none of them a right shape.
+ODD_VALUES = NOT_SEQUENCES + (
+    HUGE, -HUGE, "split", "clash", [[]], ((),), [None], (True,), ["0"], [[0]], ([0, 1],), [{}], [Web(1)], (Order(1),),
+    DEEP, (DEEP, DEEP), [DEEP] * 4, ["split", 0, DEEP], ("split", DEEP, ()), ["clash", DEEP, DEEP], [DEEP, 0, ()],
+    ("hue", DEEP, DEEP), ("road", DEEP, DEEP), ["hue", [0, 1], DEEP], [Web(1), Order(1), {}], [HUGE] * 4,
+    ([-1, -1, -1],), [None] * 3, ["split"] * 3, {"split": 0}, ["split", 0], ("split", 0, (), ()),
+)
+
+# Towers as span and bounds: some of exactly 200 things, and some of more.
+TOWERS_OF_200 = ((2, [200]), (2, [2, 10, 10]), (3, [199]), (4, (198,)), (5, [197]), (6, [196]))
+
+TOWERS_OF_MORE = (
+    (2, [3, 67]), (2, (200, 2)), (2, [200] * 8), (3, [200]), (3, [2] * 5), (3, [4, 6]), (4, [199]), (4, [2, 7]),
+    (5, [2, 2, 2]), (6, (197,)), (6, [200] * 8),
+)
+
+
 def shown(value):
     """A string that is equal for values that are equal in all members and all their kinds."""
     if isinstance(value, Web):
@@ -58,11 +80,12 @@ def dense_web(places):
     return Web(places, [(u, v) for u in range(places) for v in range(places)])
 
 
-def hub_web(into, out_of):
-    """A web with into * out_of walks of 3 places, all through one hub, and none of 4 places."""
-    hub = into + out_of
-    arrows = [(i, hub) for i in range(into)] + [(hub, into + i) for i in range(out_of)]
-    return Web(hub + 1, arrows)
+def hub_web(into, out_of, hubs=1):
+    """A web with into * out_of walks of hubs + 2 places, all through a path of hubs, and none with more places."""
+    first = into + out_of
+    last = first + hubs - 1
+    arrows = [(i, first) for i in range(into)] + [(last, into + i) for i in range(out_of)]
+    return Web(last + 1, arrows + [(hub, hub + 1) for hub in range(first, last)])
 
 
 def all_small_webs(most):
@@ -103,8 +126,39 @@ def all_small_orders(most):
     return list(orders.values())
 
 
+def spoiled(value):
+    """Copies of a nested value, in each of which one integer is replaced by a value of another kind or range."""
+    if type(value) is int:
+        yield from (None, str(value), [value], {}, -1, -value - 1, HUGE, -HUGE, Web(1))
+        if value in (0, 1):
+            yield bool(value)
+    if type(value) in (list, tuple):
+        for i, member in enumerate(value):
+            for bad in spoiled(member):
+                yield type(value)([*value[:i], bad, *value[i + 1:]])
+
+
+def as_lists(value):
+    """The same nested value with lists in the place of all tuples."""
+    if type(value) in (list, tuple):
+        return [as_lists(member) for member in value]
+    return value
+
+
+def is_tuples_throughout(tree):
+    """True for strings and integers in tuples, nested in any way."""
+    if type(tree) is tuple:
+        return all([is_tuples_throughout(member) for member in tree])
+    return type(tree) in (str, int)
+
+
 class ProgramTest(unittest.TestCase):
     """Checks of calls, which also see to it that no argument is changed."""
+
+    def judges_not(self, values, call, *args):
+        """The judge returns False for each of these values behind the arguments."""
+        for value in values:
+            self.gives(False, call, *args, value)
 
     def called(self, call, args, named):
         """What the call returns or raises, after a look at its arguments."""

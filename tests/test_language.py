@@ -11,11 +11,11 @@ import huewalks
 
 FOLDER = Path(huewalks.__file__).resolve().parent
 
+# Without product and its kin, which do not stand beside a class that is iterated over and has a length.
 LIBRARY = {
     "heapq": ("heappush", "heappop", "heapify", "heapreplace", "heappushpop"),
     "math": ("gcd", "lcm", "isqrt", "comb", "perm", "factorial"),
-    "itertools": ("product", "combinations", "permutations", "chain", "accumulate", "pairwise", "islice",
-                  "zip_longest"),
+    "itertools": ("chain", "accumulate", "pairwise", "islice", "zip_longest"),
     "collections": ("defaultdict", "deque"),
 }
 
@@ -44,7 +44,24 @@ BARRED_WORDS = """
     NamedTuple TypedDict TYPE_CHECKING abstractmethod dataclass
 """.split()
 
-BARRED_NAMES = "mro elements open input law version_info with_traceback add_note".split()
+BARRED_NAMES = "mro elements open input law version_info with_traceback add_note register".split()
+
+BARRED_PREFIXES = "_wall _pe_ _dcw_ _enum_ _cm_ _twin_re_ _lay_ _law_ _stub_ _sre".split()
+
+METHODS_OF_BUILTINS = """
+    append clear copy count endswith extend find get index insert isalnum isalpha isdigit islower isspace isupper
+    items join keys ljust lower lstrip partition pop remove replace reverse rfind rjust rpartition rsplit rstrip
+    setdefault split splitlines startswith strip update upper values zfill bit_length isascii isdecimal
+""".split()
+
+KEYWORDS_OF_BUILTINS = {
+    "sorted": ["key", "reverse"], "min": ["key", "default"], "max": ["key", "default"], "sum": ["start"],
+    "enumerate": ["start"], "zip": ["strict"],
+}
+
+ITERATED = ("range", "zip", "enumerate", "reversed", "items", "keys", "values")
+
+ITERATING = "list tuple dict sorted sum any all enumerate zip min max len reversed".split()
 
 
 # Methods that may change something; what the other double-underscore methods run may not.
@@ -139,6 +156,45 @@ class LanguageTest(unittest.TestCase):
                 if isinstance(node, ast.Assign):
                     self.assertEqual([type(target) for target in node.targets], [ast.Name], path)
 
+    def test_l3_plain_values(self):
+        for path, tree in self.trees.items():
+            for node in tree.body:
+                if isinstance(node, (ast.Assign, ast.AnnAssign)):
+                    ast.literal_eval(node.value)
+
+    def test_l23_iterated_at_once(self):
+        for path, tree in self.trees.items():
+            held = []
+            for node in ast.walk(tree):
+                if isinstance(node, (ast.For, ast.comprehension)):
+                    held.append(node.iter)
+                if isinstance(node, ast.Call) and called_name(node) in ITERATING:
+                    held += node.args[:1] if called_name(node) != "zip" else node.args
+                if isinstance(node, ast.Compare):
+                    held += node.comparators
+            for node in ast.walk(tree):
+                if isinstance(node, ast.Call) and called_name(node) in ITERATED:
+                    self.assertIn(node, held, (path.name, node.lineno))
+
+    def test_l22_keywords_of_builtins(self):
+        for name, node in self.nodes(ast.Call):
+            if called_name(node) in dir(builtins):
+                allowed = KEYWORDS_OF_BUILTINS.get(called_name(node), [])
+                self.assertEqual([word.arg for word in node.keywords if word.arg not in allowed], [], name)
+
+    def test_l25_methods(self):
+        own = [node.name for _, node in self.nodes(ast.FunctionDef)]
+        for name, node in self.nodes(ast.Call):
+            if isinstance(node.func, ast.Attribute):
+                self.assertIn(node.func.attr, own + METHODS_OF_BUILTINS, (name, node.lineno))
+
+    def test_l23_loops_do_not_change_what_they_iterate_over(self):
+        for name, node in self.nodes(ast.For):
+            for part in ast.walk(node):
+                if isinstance(part, ast.Call) and isinstance(part.func, ast.Attribute):
+                    if part.func.attr in ("append", "pop", "extend", "insert", "clear", "remove", "update"):
+                        self.assertNotEqual(ast.unparse(part.func.value), ast.unparse(node.iter), (name, part.lineno))
+
     def test_l15_one_binding_for_each_name(self):
         for path, tree in self.trees.items():
             names = defined_names(tree)
@@ -207,7 +263,8 @@ class LanguageTest(unittest.TestCase):
         for path, tree in self.trees.items():
             taken = [node.name for node in tree.body if isinstance(node, ast.ClassDef)]
             taken += [alias.name for node in tree.body if isinstance(node, ast.ImportFrom) for alias in node.names]
-            taken += [name for name in dir(builtins) if name not in NAMED_BUILTINS]
+            # Examples that run in the same process leave a builtin called _ behind.
+            taken += [name for name in dir(builtins) if name not in NAMED_BUILTINS and name != "_"]
             for node in ast.walk(tree):
                 if isinstance(node, ast.Name) and isinstance(node.ctx, ast.Store):
                     self.assertNotIn(node.id, taken, (path.name, node.lineno))
@@ -257,8 +314,16 @@ class LanguageTest(unittest.TestCase):
         for name, node in self.nodes(ast.Name, ast.arg):
             word = node.id if isinstance(node, ast.Name) else node.arg
             self.assertTrue(re.fullmatch(r"_|_?[A-Za-z][A-Za-z0-9_]*|__name__", word), (name, word))
+            self.assertFalse(word.startswith(tuple(BARRED_PREFIXES)), (name, word))
             if word == "_" and isinstance(node, ast.Name):
                 self.assertIsInstance(node.ctx, ast.Store, name)
+        for name, node in self.nodes(ast.FunctionDef, ast.ClassDef):
+            self.assertFalse(node.name.startswith(tuple(BARRED_PREFIXES)), (name, node.name))
+
+
+def called_name(node):
+    """The bare name or the method that a call names."""
+    return node.func.id if isinstance(node.func, ast.Name) else getattr(node.func, "attr", None)
 
 
 def defined_names(tree):
