@@ -3,7 +3,10 @@
 import inspect
 import unittest
 
-from huewalks import box, closedlots, errors, orders, roads, walks, webs, webtext
+from huewalks import (
+    box, cases, closedlots, counts, errors, huelay, lay, layhue, linewebs, orders, roads, rowcase, twoway, walks, webs,
+    webtext, width,
+)
 
 FUNCTIONS = {
     webs: (
@@ -57,6 +60,88 @@ FUNCTIONS = {
         "up_times(order, times)",
         "tower(span, bounds)",
         "spelled(span, bounds, thing)",
+    ),
+    counts: (
+        "binomial(whole, chosen)",
+        "box_number(bounds)",
+        "threes_number(bounds)",
+        "cube_number(many)",
+        "fours_number(bound)",
+        "plane_determinant(bounds)",
+        "lot_heights(bounds, lot)",
+        "lot_of_heights(bounds, heights)",
+        "is_heights(bounds, heights)",
+    ),
+    linewebs: (
+        "line_web(web)",
+        "line_web_times(web, times)",
+        "line_walk(web, walk)",
+        "web_walk(web, numbers)",
+        "line_meaning(web, times, place)",
+        "joins(order, a, b)",
+        "order_web(order)",
+        "is_order_web(web)",
+        "order_of_web(web)",
+    ),
+    lay: (
+        "is_laying(web, order, laying)",
+        "is_web_laying(web, onto, laying)",
+        "bad_arrow(web, order, things)",
+        "laying_after(first, second)",
+        "pull_hues(web, onto, span, laying, hues)",
+        "find_laying(web, order, *, start=())",
+        "refusal(web, order)",
+        "is_refusal(web, order, tree)",
+    ),
+    cases: (
+        "hue_refusal(web, span, bounds)",
+        "is_hue_refusal(web, span, bounds, tree)",
+        "tree_size(tree)",
+        "tree_depth(tree)",
+    ),
+    layhue: (
+        "lift_laying(web, order, laying)",
+        "lower_laying(web, order, laying)",
+        "lift_times(web, order, times, laying)",
+        "lower_times(web, order, times, laying)",
+    ),
+    huelay: (
+        "box_laying(web, bounds, hues)",
+        "box_hues(web, bounds, laying)",
+        "laying_of(web, span, bounds, hues)",
+        "hueing_of(web, span, bounds, laying)",
+        "told_hue(span, bounds, things)",
+        "told_hueing(span, bounds)",
+        "can_hue(web, span, bounds)",
+    ),
+    rowcase: (
+        "row_limit(span, bounds)",
+        "row_hueing(places, span, bounds)",
+        "is_row_in(web, places)",
+        "longest_row(web)",
+        "forced_road(span, bounds, hues)",
+    ),
+    width: (
+        "is_chain(order, things)",
+        "is_loose(order, things)",
+        "is_chain_cover(order, chains)",
+        "width_of(order)",
+        "wide_lot(order)",
+        "chain_cover(order)",
+        "levels(order)",
+        "height_of(order)",
+    ),
+    twoway: (
+        "is_dyeing(web, many, dyes)",
+        "find_dyeing(web, many)",
+        "fewest_dyes(web)",
+        "greedy_dyes(web)",
+        "is_two_way(web)",
+        "two_way_limit(span, bounds)",
+        "dye_laying(web, span, bounds, dyes)",
+        "two_way_hueing(web, span, bounds, dyes)",
+        "laying_dyes(web, span, bounds, laying)",
+        "can_hue_two_way(web, span, bounds)",
     ),
 }
 
