@@ -35,6 +35,13 @@ def is_filled(many, low, high, value):
     return is_sequence(value) and len(value) == many and first_outside(low, high, value) is None
 
 
+def is_rising(limit, value):
+    """True for a sequence of integers from 0 to the limit minus 1, each greater than the one before."""
+    if not is_sequence(value) or first_outside(0, limit - 1, value) is not None:
+        return False
+    return all([value[i] < value[i + 1] for i in range(len(value) - 1)])
+
+
 def check_number(low, high, value):
     """Refuse what is not an integer from low to high."""
     if not is_between(low, high, value):

@@ -50,7 +50,7 @@ def pull_hues(web, onto, span, laying, hues):
     check_web(onto)
     check_web_span(web, span)
     check_walk_limit(onto, span)
-    _check_images(web, len(onto), laying)
+    check_images(len(web), len(onto), laying)
     if not _keeps_all(web, onto, laying):
         raise BadLaying(None)
     table = hue_table(onto, span, hues)
@@ -88,16 +88,16 @@ def is_refusal(web, order, tree):
 
 def check_laying(web, order, laying):
     """Refuse what is not a laying of the web on the order."""
-    _check_images(web, len(order), laying)
+    check_images(len(web), len(order), laying)
     if _first_unkept(web, order, laying) is not None:
         raise BadLaying(None)
 
 
-def _check_images(web, many, laying):
-    """Refuse what is not a sequence with one of many things for each place of the web."""
-    if not is_sequence(laying) or len(laying) != len(web):
+def check_images(many, limit, laying):
+    """Refuse what is not a sequence of exactly this many integers from 0 to the limit minus 1."""
+    if not is_sequence(laying) or len(laying) != many:
         raise BadLaying(None)
-    wrong = first_outside(0, many - 1, laying)
+    wrong = first_outside(0, limit - 1, laying)
     if wrong is not None:
         raise BadLaying(wrong)
 

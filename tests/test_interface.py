@@ -4,8 +4,8 @@ import inspect
 import unittest
 
 from huewalks import (
-    box, cases, closedlots, counts, errors, huelay, lay, layhue, linewebs, orders, roads, rowcase, twoway, walks, webs,
-    webtext, width,
+    box, cases, closedlots, counts, errors, higher, huelay, lay, layhue, linedyes, linewebs, orders, rises, roads,
+    rowcase, turns, twoway, walks, webs, webtext, width,
 )
 
 FUNCTIONS = {
@@ -142,6 +142,43 @@ FUNCTIONS = {
         "two_way_hueing(web, span, bounds, dyes)",
         "laying_dyes(web, span, bounds, laying)",
         "can_hue_two_way(web, span, bounds)",
+    ),
+    linedyes: (
+        "middle_number(many)",
+        "middle_lots(many)",
+        "middle_of(many, lot)",
+        "line_dyes(web, many, dyes)",
+        "out_lots(web, many, dyes)",
+        "web_dyes(web, many, dyes)",
+    ),
+    rises: (
+        "pattern(earlier, later)",
+        "table_hues(table)",
+        "is_steady(table, hue, places)",
+        "steady_choice(table, bounds)",
+        "best_table(bounds)",
+    ),
+    turns: (
+        "turn(p, q, r)",
+        "point_hues(points)",
+        "is_cup(points, places)",
+        "is_cap(points, places)",
+        "longest_cup(points)",
+        "longest_cap(points)",
+        "cup_or_cap(points, cups, caps)",
+        "best_points(cups, caps)",
+        "spread(points)",
+        "steepest(points)",
+    ),
+    higher: (
+        "is_order_laying(order, target, laying)",
+        "wider_map(bounds, more)",
+        "parted_map(bounds, hue, first, second)",
+        "renamed_map(bounds, sources)",
+        "principal_map(order)",
+        "lifted_map(order, target, laying)",
+        "tower_map(span, bounds, more)",
+        "next_span_laying(web, span, bounds, laying)",
     ),
 }
 
