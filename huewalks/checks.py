@@ -87,3 +87,9 @@ def read_number(word):
     if len(word) > 1 and word[0] == "0":
         return None
     return int(word)
+
+
+def read_numbers(words):
+    """The list of the numbers that the words write; None if one of them writes none."""
+    numbers = [read_number(word) for word in words]
+    return None if None in numbers else numbers

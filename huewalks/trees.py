@@ -1,6 +1,6 @@
 """The shape of the trees that refusals are, whatever the question they answer."""
 
-from huewalks.checks import is_between, is_sequence
+from huewalks.checks import first_outside, is_between, is_sequence
 
 MOST_LABEL = 9999
 MOST_SPLITS = 13
@@ -16,10 +16,28 @@ def is_triple(value):
 
 def measure(tree):
     """The number of all trees in the tree and the most branches on a path; None if it is not well formed."""
-    as_cases = _measure_kind("clash", "split", MOST_SPLITS, MOST_TREES, tree)
-    if as_cases is not None:
-        return as_cases
+    as_cases = measure_cases(tree)
+    return measure_hues(tree) if as_cases is None else as_cases
+
+
+def measure_cases(tree):
+    """As measure, of trees of clashes and splits alone."""
+    return _measure_kind("clash", "split", MOST_SPLITS, MOST_TREES, tree)
+
+
+def measure_hues(tree):
+    """As measure, of trees of the forms road and hue alone."""
     return _measure_kind("road", "hue", MOST_HUE_TREES, MOST_TREES, tree)
+
+
+def is_label(value):
+    """True for an integer that a text of papers may have."""
+    return is_between(0, MOST_LABEL, value)
+
+
+def are_labels(value):
+    """True for a sequence of integers that a text of papers may have."""
+    return is_sequence(value) and first_outside(0, MOST_LABEL, value) is None
 
 
 def _measure_kind(leaf, branch, deep, room, tree):
@@ -46,21 +64,16 @@ def _measure_kind(leaf, branch, deep, room, tree):
 def _is_leaf_data(leaf, first, second):
     """True for the members behind the word of a tree without trees below it."""
     if leaf == "clash":
-        return _is_label(first) and _is_label(second)
-    return _is_label(first) and _is_label_list(second)
+        return is_label(first) and is_label(second)
+    return is_label(first) and _are_walk_labels(second)
 
 
 def _is_branch_data(branch, first, second):
     """True for the members behind the word of a tree with trees below it, whatever these trees are."""
-    named = _is_label(first) if branch == "split" else _is_label_list(first)
+    named = is_label(first) if branch == "split" else _are_walk_labels(first)
     return named and is_sequence(second) and len(second) <= MOST_TREES_BELOW
 
 
-def _is_label(value):
-    """True for an integer that a text of papers may have."""
-    return is_between(0, MOST_LABEL, value)
-
-
-def _is_label_list(value):
+def _are_walk_labels(value):
     """True for a sequence of places that a road or a walk in a text of papers may have."""
-    return is_sequence(value) and len(value) <= MOST_LABEL and all([_is_label(member) for member in value])
+    return is_sequence(value) and len(value) <= MOST_LABEL and are_labels(value)

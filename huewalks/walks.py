@@ -157,7 +157,12 @@ def check_many(many):
 
 def check_hues(web, span, many, hues):
     """Refuse what is not a hueing of the web with this many hues."""
-    if not is_sequence(hues) or len(hues) != count_walks(web, span):
+    check_hues_of(count_walks(web, span), many, hues)
+
+
+def check_hues_of(many_walks, many, hues):
+    """Refuse what is not a sequence with one of so many hues for each of these many walks."""
+    if not is_sequence(hues) or len(hues) != many_walks:
         raise BadHueing(None)
     wrong = first_outside(0, many - 1, hues)
     if wrong is not None:

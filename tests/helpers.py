@@ -58,6 +58,40 @@ TOWERS_OF_MORE = (
 )
 
 
+def nested_tree(word, named, deep):
+    """A tree with this many branches on a path and no other trees."""
+    tree = (word, named, ())
+    for _ in range(deep - 1):
+        tree = (word, named, (tree,))
+    return tree
+
+
+CLASH = ("clash", 0, 9999)
+ROAD = ("road", 9999, (0, 9999))
+
+# A well-formed paper of each word.
+WELL_FORMED = (
+    ("hueing", [0, 9999]), ("laying", [1]), ("cases", ("split", 3, (CLASH, ("split", 3, ())))), ("row", [4, 4]),
+    ("hues", ("hue", (0, 1), (ROAD, ("hue", (), ())))), ("loop", 9999), ("ties", ([0, 2], [[1], []])),
+)
+
+# Papers that are not well formed, whatever the question.
+NOT_PAPERS = list(ODD_VALUES) + [
+    [], (), ("hueing",), ("hueing", [], []), ("hueing", 0), ("laying", None), ("row", "01"), ("row", {0: 0}),
+    ("loop", [0]), ("loop", -1), ("loop", 10000), ("loop", True), ("loop", None), ("loop", "0"), ("loop",),
+    ("ties", []), ("ties", ([], [], [])), ("ties", ([0],)), ("ties", ([0], [0])), ("ties", ([[0]], [])), ("ties", [0, 1]),
+    ("ties", ([0], {})), ("ties", ([0], ["0"])), ("ties", (0, [])), ("ties", {0: [], 1: []}),
+    ("cases", ROAD), ("hues", CLASH), ("cases", ("hue", (), ())), ("hues", ("split", 0, ())),
+    ("cases", ("split", 0, (ROAD,))), ("hues", ("hue", (), (CLASH,))), ("cases", ()), ("hues", None), ("cases", 0),
+    ("cases", ("split", 0)), ("cases", ("clash", 0)), ("hues", ("road", 0)), ("hues", ("hue", (), (), ())),
+    ("Hueing", []), ("hueing ", []), ("", []), (None, []), (0, 0), (["hueing"], []), (("loop",), 0), (Web(1), []),
+    "loop", ["loop"], {"loop": 0}, ("loop", 0, 0), (("loop", 0),), ("cases", nested_tree("split", 0, 14)),
+    ("hues", nested_tree("hue", (), 11)), ("cases", ("split", 0, (CLASH,) * 201)), ("hues", ("hue", (), (ROAD,) * 201)),
+    ("hues", ("road", 0, (0,) * 10000)), ("hues", ("hue", (0,) * 10000, ())), ("hueing", [0] * 5000 + [10000]),
+    ("cases", ("split", 0, (("split", 0, (CLASH,) * 99),) * 200)),
+]
+
+
 def shown(value):
     """A string that is equal for values that are equal in all members and all their kinds."""
     if isinstance(value, Web):

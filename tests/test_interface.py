@@ -4,8 +4,8 @@ import inspect
 import unittest
 
 from huewalks import (
-    box, cases, closedlots, counts, errors, higher, huelay, lay, layhue, linedyes, linewebs, orders, rises, roads,
-    rowcase, turns, twoway, walks, webs, webtext, width,
+    box, cases, closedlots, counts, engine, errors, foe, higher, huelay, lay, layhue, linedyes, linewebs, orders, papers,
+    papertext, rises, roads, rowcase, script, turns, twoway, walks, webs, webtext, width,
 )
 
 FUNCTIONS = {
@@ -180,6 +180,19 @@ FUNCTIONS = {
         "tower_map(span, bounds, more)",
         "next_span_laying(web, span, bounds, laying)",
     ),
+    papers: (
+        "is_answer(web, span, bounds, paper)",
+        "decide(web, span, bounds)",
+        "says_yes(paper)",
+    ),
+    papertext: (
+        "format_paper(paper)",
+        "parse_paper(text)",
+        "format_case(web, span, bounds, paper)",
+        "parse_case(text)",
+        "judge_text(text)",
+    ),
+    script: ("run_script(text)",),
 }
 
 METHODS = {
@@ -199,11 +212,50 @@ METHODS = {
         "beneath(self, thing)",
         "beside(self, other)",
     ),
+    foe.Foe: (
+        "__init__(self, span, bounds)",
+        "come(self)",
+        "hue_of(self, walk)",
+        "hues(self)",
+    ),
+    foe.Watch: (
+        "__init__(self, span, bounds)",
+        "come(self, hues)",
+        "hues(self)",
+        "deepest(self, hue)",
+    ),
+    engine.Engine: (
+        "__init__(self, span, bounds, places=0)",
+        "add_place(self)",
+        "add_arrow(self, u, v)",
+        "drop_arrow(self, u, v)",
+        "paint(self, walk, hue)",
+        "clean(self, walk)",
+        "fill(self)",
+        "undo(self)",
+        "hue_of(self, walk)",
+        "choices(self, walk)",
+        "bare(self)",
+        "deepest(self, hue)",
+        "hues(self)",
+        "laying(self)",
+    ),
+}
+
+PROPERTIES = {
+    webs.Web: ("places", "arrows"),
+    orders.Order: ("size", "covers"),
+    foe.Foe: ("room",),
+    foe.Watch: ("ended",),
+    engine.Engine: ("span", "bounds", "web", "deeds"),
 }
 
 SIGNS = {
     webs.Web: ("__len__", "__iter__", "__contains__", "__eq__", "__ne__"),
     orders.Order: ("__len__", "__eq__", "__ne__", "__mul__", "__add__", "__neg__"),
+    foe.Foe: ("__len__",),
+    foe.Watch: ("__len__",),
+    engine.Engine: (),
 }
 
 
@@ -218,8 +270,10 @@ class InterfaceTest(unittest.TestCase):
                 self.assertEqual(function.__module__, module.__name__)
 
     def test_methods_stand_in_the_class(self):
-        self.assertEqual(webs.Web.__module__, "huewalks.webs")
-        self.assertEqual(orders.Order.__module__, "huewalks.orders")
+        for kind, module in (
+            (webs.Web, webs), (orders.Order, orders), (foe.Foe, foe), (foe.Watch, foe), (engine.Engine, engine),
+        ):
+            self.assertEqual(kind.__module__, module.__name__)
         for kind, heads in METHODS.items():
             for head in heads:
                 name = head.partition("(")[0]
@@ -232,6 +286,12 @@ class InterfaceTest(unittest.TestCase):
         self.assertEqual((web.places, web.arrows), (2, [(0, 1)]))
         order = orders.Order(2, [(0, 1)])
         self.assertEqual((order.size, order.covers), (2, [(0, 1)]))
+        self.assertEqual((foe.Foe(2, [5]).room, foe.Watch(2, [5]).ended), (5, False))
+        held = engine.Engine(2, [5], 1)
+        self.assertEqual((held.span, held.bounds, held.web, held.deeds), (2, (5,), webs.Web(1), 0))
+        for kind, names in PROPERTIES.items():
+            for name in names:
+                self.assertIsInstance(vars(kind)[name], property)
 
     def test_errors_stand_in_their_file(self):
         for name in ("HueError", "BadWeb", "BadNumber", "BadText", "TooMany", "TooLong", "Ended"):

@@ -160,7 +160,19 @@ class LanguageTest(unittest.TestCase):
         for path, tree in self.trees.items():
             for node in tree.body:
                 if isinstance(node, (ast.Assign, ast.AnnAssign)):
-                    ast.literal_eval(node.value)
+                    self.check_plain(path, tree, node)
+
+    def check_plain(self, path, tree, node):
+        if not isinstance(node.value, ast.Dict):
+            ast.literal_eval(node.value)
+            return
+        above = [part.name for part in tree.body if isinstance(part, ast.FunctionDef) and part.lineno < node.lineno]
+        for key, value in zip(node.value.keys, node.value.values):
+            ast.literal_eval(key)
+            if isinstance(value, ast.Name):
+                self.assertIn(value.id, above, (path, node.lineno))
+            else:
+                ast.literal_eval(value)
 
     def test_l23_iterated_at_once(self):
         for path, tree in self.trees.items():
