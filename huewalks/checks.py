@@ -42,6 +42,13 @@ def is_rising(limit, value):
     return all([value[i] < value[i + 1] for i in range(len(value) - 1)])
 
 
+def are_bounds(value):
+    """True for a sequence of one bound for each of 1 to 8 hues."""
+    if not is_sequence(value) or not is_between(1, MOST_HUES, len(value)):
+        return False
+    return first_outside(1, MOST_BOUND, value) is None
+
+
 def check_number(low, high, value):
     """Refuse what is not an integer from low to high."""
     if not is_between(low, high, value):

@@ -1,8 +1,6 @@
 """The text of a paper, and the text of a case: a question and a paper for it."""
 
-from huewalks.checks import (
-    MOST_BOUND, MOST_HUES, check_bounds, check_text, first_outside, is_between, read_number, read_numbers,
-)
+from huewalks.checks import are_bounds, check_bounds, check_text, is_between, read_number, read_numbers
 from huewalks.errors import BadText
 from huewalks.papers import LIST_WORDS, check_paper, is_answer, is_paper
 from huewalks.trees import MOST_HUE_TREES, MOST_SPLITS, MOST_TREES_BELOW
@@ -180,9 +178,7 @@ def _read_bounds(line):
     """The bounds of the second line of a case."""
     words = line.split(" ")
     bounds = read_numbers(words[1:])
-    if words[0] != "bounds" or bounds is None or not is_between(1, MOST_HUES, len(bounds)):
-        raise BadText(2)
-    if first_outside(1, MOST_BOUND, bounds) is not None:
+    if words[0] != "bounds" or not are_bounds(bounds):
         raise BadText(2)
     return tuple(bounds)
 

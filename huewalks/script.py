@@ -1,6 +1,6 @@
 """Scripts: lines that are run one after another on one engine."""
 
-from huewalks.checks import MOST_BOUND, MOST_HUES, check_text, first_outside, is_between, read_numbers
+from huewalks.checks import are_bounds, check_text, is_between, read_numbers
 from huewalks.engine import Engine
 from huewalks.errors import BadNumber, BadText, BadWalk, BadWeb, TooLong, TooMany, Unhued
 from huewalks.rowcase import row_limit
@@ -30,11 +30,9 @@ def _read_start(line):
     """The list of the span and the bounds that the first line tells; None if the line is not right."""
     words = line.split(" ")
     numbers = read_numbers(words[1:])
-    if words[0] != "start" or numbers is None or not is_between(2, MOST_HUES + 1, len(numbers)):
+    if words[0] != "start" or numbers is None or not are_bounds(numbers[1:]):
         return None
-    if not is_between(LEAST_SPAN, MOST_SPAN, numbers[0]) or first_outside(1, MOST_BOUND, numbers[1:]) is not None:
-        return None
-    return numbers
+    return numbers if is_between(LEAST_SPAN, MOST_SPAN, numbers[0]) else None
 
 
 def _read_line(span, line):
