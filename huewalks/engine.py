@@ -211,7 +211,7 @@ class Tangle:
         while len(ends) > 0:
             ends = [end for end in ends if self._most[end] < steps]
             # A ring leads back to where the link begins, and each end on the way gets a longer road.
-            if u in ends or (len(ends) > 0 and steps >= self._bound):
+            if u in ends or steps >= self._bound:
                 return None
             for end in ends:
                 grown[end] = steps

@@ -3,7 +3,7 @@
 from huewalks.checks import are_bounds, check_bounds, check_text, is_between, read_number, read_numbers
 from huewalks.errors import BadText
 from huewalks.papers import LIST_WORDS, check_paper, is_answer, is_paper
-from huewalks.trees import MOST_HUE_TREES, MOST_SPLITS, MOST_TREES_BELOW
+from huewalks.trees import MOST_HUE_TREES, MOST_SPLITS
 from huewalks.walks import LEAST_SPAN, MOST_SPAN, check_span
 from huewalks.webs import check_web
 from huewalks.webtext import format_web, parse_web
@@ -31,7 +31,6 @@ def parse_paper(text):
     """The paper with this text."""
     check_text(text)
     paper = _read_paper(text.split(" "))
-    # A tree with too many trees in all is read to its end before it is seen.
     if not is_paper(paper):
         raise BadText(1)
     return paper
@@ -146,8 +145,8 @@ def _read_hues(words, at, deep):
 
 def _read_trees(read, words, at, many, deep):
     """So many trees whose words begin at this index, below a tree that counts as one of deep, and the index behind."""
-    # No text may lead deeper than a tree may be.
-    if deep < 1 or many > MOST_TREES_BELOW:
+    # No text may lead deeper than a tree may be; the other limits are checked once the tree is read.
+    if deep < 1:
         raise BadText(1)
     trees = []
     behind = at

@@ -80,7 +80,7 @@ NOT_PAPERS = list(ODD_VALUES) + [
     [], (), ("hueing",), ("hueing", [], []), ("hueing", 0), ("laying", None), ("row", "01"), ("row", {0: 0}),
     ("loop", [0]), ("loop", -1), ("loop", 10000), ("loop", True), ("loop", None), ("loop", "0"), ("loop",),
     ("ties", []), ("ties", ([], [], [])), ("ties", ([0],)), ("ties", ([0], [0])), ("ties", ([[0]], [])), ("ties", [0, 1]),
-    ("ties", ([0], {})), ("ties", ([0], ["0"])), ("ties", (0, [])), ("ties", {0: [], 1: []}),
+    ("tie", ([0], [[0]])), (None, ([], [])), ("ties", ([0], {})), ("ties", ([0], ["0"])), ("ties", (0, [])), ("ties", {0: [], 1: []}),
     ("cases", ROAD), ("hues", CLASH), ("cases", ("hue", (), ())), ("hues", ("split", 0, ())),
     ("cases", ("split", 0, (ROAD,))), ("hues", ("hue", (), (CLASH,))), ("cases", ()), ("hues", None), ("cases", 0),
     ("cases", ("split", 0)), ("cases", ("clash", 0)), ("hues", ("road", 0)), ("hues", ("hue", (), (), ())),

@@ -132,6 +132,7 @@ class FoeTest(RowTest):
             first.come()
         self.assertEqual((len(first), len(second), second.room), (4, 0, 6))
         first.hues().clear()
+        self.assertEqual(first.hues(), row_hueing(4, 3, [2, 2]))
         first.come().clear()
         for _ in range(5):
             second.come()

@@ -98,6 +98,7 @@ class OrderLayingTest(ProgramTest):
     def test_wrong_arguments_and_values(self):
         for order in NOT_ORDERS:
             self.refused(BadOrder(None), is_order_laying, order, None, None)
+            self.refused(BadOrder(None), is_order_laying, order, Order(1), None)
             self.refused(BadOrder(None), is_order_laying, Order(1), order, None)
             self.refused(BadOrder(None), lifted_map, order, None, None)
             self.refused(BadOrder(None), lifted_map, loose_order(20), order, None)
@@ -187,6 +188,7 @@ class PartedTest(ProgramTest):
             self.refused(TooMany(200), parted_map, bounds, 0, 1, bounds[0])
         for hue in NOT_INTEGERS + (-1, 2, 7, HUGE, -HUGE):
             self.refused(BadNumber(), parted_map, [4, 4], hue, None, None)
+            self.refused(BadNumber(), parted_map, [4, 4], hue, 2, 2)
         for number in NOT_BOUND_NUMBERS:
             self.refused(BadNumber(), parted_map, [4, 4], 0, number, 4)
             self.refused(BadNumber(), parted_map, [4, 4], 1, 2, number)

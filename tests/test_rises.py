@@ -175,6 +175,8 @@ class SteadyTest(ProgramTest):
             self.gives(None, steady_choice, (), (200,) * many)
         for many in (0, 1, 3, 5, 6, 7, 9):
             self.refused(BadBounds(None), steady_choice, [], [0] * many)
+        for many in (2, 4, 8):
+            self.refused(BadBounds(1), steady_choice, [], [1, 0] * (many // 2))
 
     def test_wrong_bounds(self):
         for columns in (1, 2, 3):
