@@ -99,7 +99,10 @@ class Engine:
         tangles = [
             Tangle(many_ends, links_of_hue(links, worn, hue), bound) for hue, bound in enumerate(self._bounds)
         ]
-        filled = [_least_taker(tangles, link) if hue is None else hue for link, hue in zip(links, worn)]
+        filled = []
+        for link, hue in zip(links, worn):
+            # A link that is taken counts for the later ones, so they come one after the other.
+            filled.append(_least_taker(tangles, link) if hue is None else hue)
         if filled != worn:
             self._go_on(self._web, {walk: hue for walk, hue in zip(self._hues, filled)})
         return filled.count(None)
